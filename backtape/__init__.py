@@ -1,0 +1,1 @@
+"""Backtape: runs kept on a tape, and gone back."""
