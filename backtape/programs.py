@@ -38,6 +38,11 @@ def is_name(thing):
     return thing in LETTERS
 
 
+def is_cell(thing):
+    """Whether the thing is the number of a cell."""
+    return is_whole(thing) and 0 <= thing < CELL_COUNT
+
+
 def is_place(thing, row_count):
     """Whether the thing is a row's number, or that behind all rows."""
     return is_whole(thing) and 0 <= thing <= row_count

@@ -1,6 +1,7 @@
 """States, and the steps from one to the next."""
 
-from backtape.programs import CELL_COUNT, LETTERS, WORTH_COUNT, inner_sums
+from backtape.errors import NoThing
+from backtape.programs import CELL_COUNT, LETTERS, WORTH_COUNT, inner_sums, is_cell, is_name
 
 # Where each part stands in a state.
 ROW = 0
@@ -16,6 +17,15 @@ MOST_CALLS = 6
 def begun():
     """The state ahead of all steps."""
     return (0, (0,) * len(LETTERS), (0,) * CELL_COUNT, (), 0, ())
+
+
+def worth_in(state, thing):
+    """The worth of a name, or of a cell by its number, in a state."""
+    if is_name(thing):
+        return state[NAMES][LETTERS.index(thing)]
+    if is_cell(thing):
+        return state[CELLS][thing]
+    raise NoThing(f"no name and no cell: {thing!r}")
 
 
 def laid_out(term):
@@ -46,7 +56,7 @@ def worth_of(part, worths, state):
     if word == "num":
         return part[1]
     if word == "name":
-        return state[NAMES][LETTERS.index(part[1])]
+        return worth_in(state, part[1])
     last = worths.pop()
     if word == "cell":
         return state[CELLS][last % CELL_COUNT]
@@ -94,6 +104,13 @@ def with_worth(worths, number, worth):
 def with_name(state, name, worth):
     """The state's worths of names, but that this name has another."""
     return with_worth(state[NAMES], LETTERS.index(name), worth)
+
+
+def with_thing(state, thing, worth):
+    """The state, but that this thing has another worth."""
+    if is_name(thing):
+        return state[:NAMES] + (with_name(state, thing, worth),) + state[NAMES + 1:]
+    return state[:CELLS] + (with_worth(state[CELLS], thing, worth),) + state[CELLS + 1:]
 
 
 def brought(asked, number):

@@ -3,34 +3,16 @@
 import copy
 import unittest
 
-from backtape.steps import begun, is_over, reckoned, states, stepped
+from backtape.errors import NoThing
+from backtape.steps import begun, is_over, reckoned, states, stepped, with_thing, worth_in
+from helper import NO_THINGS, STOP, cell, kinds, name, num
 
 STATE = (0, (11, 22, 33, 44, 55, 10006), (101, 102, 103, 104), (4, 1), 1, (7, 8))
-STOP = ("stop",)
-
-
-def num(worth):
-    return ("num", worth)
-
-
-def name(letter):
-    return ("name", letter)
-
-
-def cell(one):
-    return ("cell", one)
 
 
 def at(row, calls=(), state=STATE):
     """The state, but with another place next and other calls."""
     return (row, state[1], state[2], calls) + state[4:]
-
-
-def kinds(thing):
-    """The thing with each part's kind, so that 1 and True are told apart."""
-    if isinstance(thing, (tuple, list)):
-        return (type(thing), [kinds(part) for part in thing])
-    return (type(thing), thing)
 
 
 class Told(unittest.TestCase):
@@ -61,6 +43,23 @@ class BegunTest(Told):
 
     def test_every_time_the_same(self):
         self.same(begun(), begun())
+
+
+class ThingsTest(Told):
+    def test_the_worth_of_each_thing(self):
+        for letter, worth in zip("abcdef", STATE[1]):
+            self.same(worth_in(STATE, letter), worth)
+        for number, worth in enumerate(STATE[2]):
+            self.same(worth_in(STATE, number), worth)
+
+    def test_no_thing(self):
+        for thing in NO_THINGS:
+            with self.assertRaises(NoThing, msg=thing):
+                worth_in(STATE, thing)
+
+    def test_another_worth_of_a_thing_and_of_no_other(self):
+        self.same(with_thing(STATE, "e", 9), (0, (11, 22, 33, 44, 9, 10006)) + STATE[2:])
+        self.same(with_thing(STATE, 0, 9), STATE[:2] + ((9, 102, 103, 104),) + STATE[3:])
 
 
 class ReckonedTest(Told):
