@@ -19,13 +19,18 @@ def begun():
     return (0, (0,) * len(LETTERS), (0,) * CELL_COUNT, (), 0, ())
 
 
+def check_thing(thing):
+    """Refuses what is neither a name nor a cell's number."""
+    if not is_name(thing) and not is_cell(thing):
+        raise NoThing(f"no name and no cell: {thing!r}")
+
+
 def worth_in(state, thing):
     """The worth of a name, or of a cell by its number, in a state."""
     if is_name(thing):
         return state[NAMES][LETTERS.index(thing)]
-    if is_cell(thing):
-        return state[CELLS][thing]
-    raise NoThing(f"no name and no cell: {thing!r}")
+    check_thing(thing)
+    return state[CELLS][thing]
 
 
 def laid_out(term):
@@ -70,6 +75,11 @@ def reckoned(term, state):
     for part in reversed(laid_out(term)):
         worths.append(worth_of(part, worths, state))
     return worths[0]
+
+
+def cell_by(term, state):
+    """The number of the cell that a sum's worth stands for in a state."""
+    return reckoned(term, state) % CELL_COUNT
 
 
 def is_over(program, state):
@@ -128,7 +138,7 @@ def stepped(program, asked, state):
     if word == "set":
         behind[NAMES] = with_name(state, row[1], reckoned(row[2], state))
     elif word == "put":
-        behind[CELLS] = with_worth(state[CELLS], reckoned(row[1], state) % CELL_COUNT, reckoned(row[2], state))
+        behind[CELLS] = with_worth(state[CELLS], cell_by(row[1], state), reckoned(row[2], state))
     elif word == "ask":
         behind[NAMES] = with_name(state, row[1], brought(asked, state[ASKED]))
         behind[ASKED] = state[ASKED] + 1

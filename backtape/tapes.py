@@ -2,7 +2,7 @@
 
 from backtape.errors import NoMoment
 from backtape.programs import is_whole
-from backtape.steps import begun, is_over, stepped
+from backtape.steps import ROW, begun, is_over, stepped
 
 MOST_MARKS = 8
 
@@ -108,11 +108,21 @@ class Tape:
     def readings(self, reader):
         """What the reader tells of the state at each moment of the run."""
         # Only what is read is kept, since all states of a long run would be many.
-        state = begun()
+        state = self.kept[0]
         told = [reader(state)]
         while not self.is_last(len(told) - 1, state):
             state = self.behind(state)
             told.append(reader(state))
+        return told
+
+    def steps_to(self, moment, reader):
+        """What the reader tells of each step up to this moment, by its row and the state ahead of it."""
+        self.check(moment)
+        state = self.kept[0]
+        told = []
+        for step in range(moment):
+            told.append(reader(self.program[state[ROW]], state))
+            state = self.behind(state)
         return told
 
     def first_from(self, moment, test):

@@ -95,12 +95,27 @@ def tame_program(draw):
     return tuple(rows)
 
 
+def busy_program(draw):
+    """A loop whose steps read much of what those ahead of them wrote, and that f counts; f may end it or not."""
+    row_count = 4 + draw.below(5)
+    words = ("set",) * 5 + ("put",) * 4 + ("ask",)
+    rows = [drawn_row(draw, words, ()) for _ in range(row_count)]
+    busy = [("set", letter, (draw.of(("add", "mul", "sub")), drawn_sum(draw, 1), cell(name(draw.of("abc")))))
+            for letter in draw.of(("ab", "bc", "ca"))]
+    count = ("set", "f", ("add", name("f"), num(1)))
+    bound = ("unless", ("less", name("f"), num(draw.of((1, 2, 3, 3, 4, 60)))), len(rows) + len(busy) + 3)
+    return tuple(rows + busy + [count, bound, ("jump", 0)])
+
+
+DRAWN_WAYS = (wild_program, tame_program, busy_program)
+
+
 def drawn_runs(many):
     """So many tuples (program, asked, most), the same ones each time."""
     runs = []
     for seed in range(many):
         draw = Draw(seed)
-        program = wild_program(draw) if seed % 2 == 0 else tame_program(draw)
+        program = DRAWN_WAYS[seed % len(DRAWN_WAYS)](draw)
         asked = [draw.below(draw.of((4, 10007))) for _ in range(draw.below(6))]
         runs.append((program, asked, draw.of((5, 13, 40, 40, 60))))
     return runs

@@ -1,4 +1,4 @@
-"""Promise 0.2, (a) to (d), over drawn programs, each answer held against all states of its run."""
+"""Promise 0.2, (a) to (e), over drawn programs, each answer held against all states of its run."""
 
 import copy
 import functools
@@ -11,6 +11,7 @@ from backtape.asking import (
 from backtape.differing import change_at, differing, first_other, led_back, led_on
 from backtape.errors import NoMoment
 from backtape.programs import is_program
+from backtape.reasons import needless, reasons, remade, thing_written, writer_of
 from backtape.steps import reckoned, states
 from backtape.tapes import Tape
 from backtape.walking import back_out, back_over, calls, depth, open_calls, out, over
@@ -21,6 +22,17 @@ MANY = 400
 
 def worth_of(state, thing):
     return state[1][LETTERS.index(thing)] if thing in tuple(LETTERS) else state[2][thing]
+
+
+def reads_of(term, state):
+    """The things that a sum reads, by the words of the document."""
+    if term[0] == "num":
+        return set()
+    if term[0] == "name":
+        return {term[1]}
+    if term[0] == "cell":
+        return {reckoned(term[1], state) % 4} | reads_of(term[1], state)
+    return reads_of(term[1], state) | reads_of(term[2], state)
 
 
 class Run:
@@ -52,6 +64,32 @@ class Run:
             moments[number], moments[other] = moments[other], moments[number]
         return moments
 
+    def written(self, moment):
+        """What the step to this moment writes, by the words of the document."""
+        ahead = self.states[moment - 1]
+        row = self.program[ahead[0]]
+        if row[0] == "put":
+            return reckoned(row[1], ahead) % 4
+        return row[1] if row[0] in ("set", "ask") else None
+
+    def writer(self, moment, thing):
+        return max([other for other in range(1, moment + 1) if self.written(other) == thing], default=None)
+
+    def reasons(self, moment, term):
+        """The reasons by the words of the document, step by step."""
+        found = set()
+        waiting = [(thing, moment) for thing in reads_of(term, self.states[moment])]
+        while waiting:
+            thing, bound = waiting.pop()
+            writer = self.writer(bound, thing)
+            if writer is not None and writer not in found:
+                found.add(writer)
+                ahead = self.states[writer - 1]
+                row = self.program[ahead[0]]
+                terms = {"set": row[2:], "put": row[1:], "ask": ()}[row[0]]
+                waiting += [(read, writer - 1) for other in terms for read in reads_of(other, ahead)]
+        return sorted(found)
+
     def some_moments(self):
         return [0, self.last] + [self.draw.below(self.last + 1) for _ in range(6)]
 
@@ -76,7 +114,7 @@ def over_runs(check):
 class DrawnTest(unittest.TestCase):
     def test_what_is_drawn_is_worth_asking(self):
         """Enough long runs, runs of both ends, calls that come back, also within calls, and such that do not."""
-        sorts = ("program", "long", "over", "cut", "back", "within", "never", "said", "again")
+        sorts = ("program", "long", "over", "cut", "back", "within", "never", "said", "again", "reasons")
         found = {sort: 0 for sort in sorts}
         for run in RUNS:
             told = calls(run.tape)
@@ -89,6 +127,7 @@ class DrawnTest(unittest.TestCase):
             found["within"] += any([run.depths[moment] > 0 for moment, _ in ended])
             found["never"] += len(told) > len(ended)
             found["said"] += len(run.states[-1][5]) > 0
+            found["reasons"] += max([len(run.reasons(run.last, ("name", letter))) for letter in LETTERS]) >= 5
             found["again"] += len({state[1:3] for state in run.states}) <= run.last // 2
         self.assertEqual(found.pop("program"), MANY)
         for sort, many in found.items():
@@ -231,6 +270,30 @@ class DrawnTest(unittest.TestCase):
             self.assertEqual(change[1], tuple(differing(run.tape, moment - 1, moment)))
             both = [(ahead[part], behind[part]) for part in (0, 3, 4, 5)]
             self.assertEqual([change[0]] + list(change[2:]), both)
+
+    @over_runs
+    def test_e_what_steps_write(self, run):
+        wrote = [run.written(moment) for moment in run.moments[1:]]
+        self.assertEqual([thing_written(run.tape, moment) for moment in run.moments[1:]], wrote)
+        for moment in run.some_moments()[:4]:
+            for thing in THINGS:
+                self.assertEqual(writer_of(run.tape, moment, thing), run.writer(moment, thing))
+
+    @over_runs
+    def test_e_the_steps_of_which_a_worth_comes_make_it_anew(self, run):
+        for moment in run.some_moments():
+            term = drawn_sum(run.draw, 3)
+            told = reasons(run.tape, moment, term)
+            made = (0,) + remade(run.tape, told) + ((), 0, ())
+            self.assertEqual(reckoned(term, made), reckoned(term, run.states[moment]))
+            self.assertEqual(told, run.reasons(moment, term))
+            wrote = [number for number in run.moments[1:moment + 1] if run.written(number) is not None]
+            self.assertEqual(needless(run.tape, moment, term), [number for number in wrote if number not in told])
+
+    @over_runs
+    def test_e_all_steps_remake_the_states(self, run):
+        for moment in run.some_moments():
+            self.assertEqual(remade(run.tape, list(range(1, moment + 1))), run.states[moment][1:3])
 
     @over_runs
     def test_what_differs_between_drawn_moments(self, run):
